@@ -1,0 +1,1 @@
+"""Tables of things and marks, and their lattices."""

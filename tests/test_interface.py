@@ -1,0 +1,48 @@
+"""The interface: each name stands in its file, with its arguments in their order."""
+
+import importlib
+import inspect
+import unittest
+
+FUNCTIONS = {
+    "texts": {"write": ["table"], "read": ["text"]},
+    "tables": {
+        "common": ["table", "things"],
+        "having": ["table", "marks"],
+        "closure": ["table", "marks"],
+        "turned": ["table"],
+    },
+}
+CLASSES = {
+    "errors": {
+        "TextFault": ["line", "reason"],
+        "AnswerFault": ["reason"],
+        "ThingFault": ["reason"],
+    },
+}
+
+
+class Interface(unittest.TestCase):
+    def assert_listed(self, listed, is_kind):
+        for file, names in listed.items():
+            module = importlib.import_module(f"formalconcepts.{file}")
+            for name, arguments in names.items():
+                found = getattr(module, name)
+                self.assertTrue(is_kind(found), name)
+                self.assertEqual(found.__module__, module.__name__)
+                self.assertEqual(list(inspect.signature(found).parameters), arguments, name)
+
+    def test_functions(self):
+        self.assert_listed(FUNCTIONS, inspect.isfunction)
+
+    def test_classes(self):
+        self.assert_listed(CLASSES, inspect.isclass)
+
+    def test_the_base_of_the_errors(self):
+        errors = importlib.import_module("formalconcepts.errors")
+        self.assertTrue(inspect.isclass(errors.ConceptFault))
+        self.assertEqual(errors.ConceptFault.__module__, "formalconcepts.errors")
+
+
+if __name__ == "__main__":
+    unittest.main()
