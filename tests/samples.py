@@ -36,3 +36,38 @@ GREATEST = ("table", 7, (
     (),
     (0, 6),
 ))
+
+# Tables in which all things have all marks, or none has any.
+ALL_HAVE_ALL = ("table", 3, ((0, 1, 2), (0, 1, 2)))
+NONE_HAS_ANY = ("table", 3, ((), ()))
+
+# Each set of its marks is closed: each thing lacks just one mark.
+ALL_CLOSED = ("table", 7, tuple(tuple(mark for mark in range(7) if mark != thing) for thing in range(7)))
+
+# Tables with edges of their own, each in the bounds.
+EDGES = (
+    NEITHER,
+    NO_THINGS,
+    NO_MARKS,
+    ALL_HAVE_ALL,
+    NONE_HAS_ANY,
+    ("table", 0, ((),)),
+    ("table", 1, ()),
+    ("table", 1, ((),)),
+    ("table", 1, ((0,),)),
+    ("table", 7, ()),
+    ("table", 0, ((),) * 8),
+    ("table", 7, ((0, 1, 2, 3, 4, 5, 6),) * 8),
+    ("table", 7, ((),) * 8),
+)
+
+# Tables with many closed sets, or with rows that stand in the way of each other.
+LARGE = (
+    GREATEST,
+    ALL_CLOSED,
+    ("table", 7, tuple(tuple(range(thing)) for thing in range(8))),
+    ("table", 7, tuple(tuple(range(thing, 7)) for thing in range(8))),
+    ("table", 7, ((0, 1), (1, 2), (2, 3), (3, 4), (4, 5), (5, 6), (0, 6), (0, 3, 6))),
+    ("table", 7, ((0, 2, 5), (2, 5), (0, 1, 2, 5, 6), (3,), (3, 4), (0, 2, 5), (1, 3, 6), (1, 4, 5, 6))),
+    ("table", 6, ((0, 1, 2), (3, 4, 5), (0, 3), (1, 4), (2, 5), (0, 1, 3, 4), ())),
+)

@@ -12,6 +12,24 @@ FUNCTIONS = {
         "closure": ["table", "marks"],
         "turned": ["table"],
     },
+    "lectic": {
+        "is_less": ["marks", "other"],
+        "next_closed": ["table", "marks"],
+        "closed_sets": ["table"],
+    },
+    "concepts": {
+        "concepts": ["table"],
+        "is_concept": ["table", "pair"],
+        "of_thing": ["table", "thing"],
+        "of_mark": ["table", "mark"],
+        "meet": ["table", "concept", "other"],
+        "join": ["table", "concept", "other"],
+    },
+    "neighbors": {
+        "above": ["table", "concept"],
+        "below": ["table", "concept"],
+        "lattice_of": ["table"],
+    },
 }
 CLASSES = {
     "errors": {

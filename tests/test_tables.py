@@ -4,22 +4,10 @@ import unittest
 
 from formalconcepts.tables import closure, common, having, turned
 from formalconcepts.texts import read, write
+from tests.plain import common_of, having_of
 from tests.samples import EXAMPLE, GREATEST, NEITHER, NO_MARKS, NO_THINGS, sets_below, tables_up_to
 
 SMALL = tables_up_to(3, 3)
-
-
-def common_of(table, things):
-    """Return what [c2] calls common, by sets."""
-    found = set(range(table[1]))
-    for thing in things:
-        found &= set(table[2][thing])
-    return tuple(sorted(found))
-
-
-def having_of(table, marks):
-    """Return what [c2] calls having, by sets."""
-    return tuple(thing for thing, row in enumerate(table[2]) if set(marks) <= set(row))
 
 
 class SetTest(unittest.TestCase):
