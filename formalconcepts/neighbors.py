@@ -32,5 +32,5 @@ def lattice_of(table):
     # Above are the concepts whose marks are fewer. As there may be very many
     # concepts, each two are compared as numbers.
     masks = [mask_of(marks) for marks in closed_sets(table)]
-    rows = [tuple([place for place, other in enumerate(masks) if other & mask == other]) for mask in masks]
+    rows = [tuple([place for place, other in enumerate(masks) if (other & mask) == other]) for mask in masks]
     return ("lattice", len(masks), tuple(rows))

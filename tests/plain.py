@@ -47,3 +47,43 @@ def greatest_of(found):
     """Return the concept that is above all others of some."""
     (greatest,) = [concept for concept in found if all(is_below(other, concept) for other in found)]
     return greatest
+
+
+def is_plain_order(many, above):
+    """Tell whether for each element the set of those above it makes an order by [c6]."""
+    numbers = range(many)
+    return (
+        all(x in above[x] for x in numbers)
+        and all(z in above[x] for x in numbers for y in above[x] for z in above[y])
+        and not any(x != y and y in above[x] and x in above[y] for x in numbers for y in numbers)
+    )
+
+
+def joins_of(order, some):
+    """Return the elements above all of some that are below all that are above all of them."""
+    _, many, above = order
+    higher = [z for z in range(many) if all(z in above[x] for x in some)]
+    return [z for z in higher if all(other in above[z] for other in higher)]
+
+
+def meets_of(order, some):
+    """Return the elements below all of some that are above all that are below all of them."""
+    _, many, above = order
+    lower = [z for z in range(many) if all(x in above[z] for x in some)]
+    return [z for z in lower if all(z in above[other] for other in lower)]
+
+
+def is_plain_lattice(many, above):
+    """Tell whether for each element the set of those above it makes a lattice by [c6]."""
+    pairs = [(x, y) for x in range(many) for y in range(many)]
+    return many > 0 and is_plain_order(many, above) and all(
+        joins_of(("order", many, above), pair) and meets_of(("order", many, above), pair) for pair in pairs
+    )
+
+
+def keeps_both_ways(order, other, places):
+    """Tell whether the places of elements in another order stand there as the elements do."""
+    return all(
+        (y in order[2][x]) == (places[y] in other[2][places[x]])
+        for x in range(order[1]) for y in range(order[1])
+    )

@@ -30,6 +30,33 @@ FUNCTIONS = {
         "below": ["table", "concept"],
         "lattice_of": ["table"],
     },
+    "lattices": {
+        "is_order": ["order"],
+        "is_lattice": ["lattice"],
+        "join_of": ["lattice", "x", "y"],
+        "meet_of": ["lattice", "x", "y"],
+        "join_irreducible": ["lattice"],
+        "meet_irreducible": ["lattice"],
+    },
+    "theorem": {
+        "table_of": ["lattice"],
+        "led": ["lattice"],
+        "alike": ["lattice", "other"],
+        "completion": ["order"],
+    },
+    "kinds": {
+        "pentagon": ["lattice"],
+        "diamond": ["lattice"],
+        "kind": ["lattice"],
+        "down_sets": ["order"],
+        "irreducible_order": ["lattice"],
+    },
+    "reducing": {
+        "needless_things": ["table"],
+        "needless_marks": ["table"],
+        "reduced": ["table"],
+        "arrows": ["table"],
+    },
 }
 CLASSES = {
     "errors": {

@@ -1,6 +1,7 @@
 """Some of the rules of ../shared/LANGUAGE.md that a look at the code can tell."""
 
 import ast
+import builtins
 import re
 import unittest
 from pathlib import Path
@@ -24,6 +25,27 @@ BARRED_NAMES = {
     "register", "mro", "elements", "open", "input", "law", "eval", "exec", "globals", "locals", "vars", "dir",
     "chr", "filter", "round", "hash", "id", "print", "callable", "format", "slice", "bytearray", "memoryview",
 }
+
+# L8: the builtins that may be used.
+BUILTINS = {
+    "len", "range", "enumerate", "zip", "min", "max", "sum", "abs", "sorted", "reversed", "int", "str", "bool", "list",
+    "tuple", "dict", "set", "isinstance", "ord", "repr", "any", "all", "divmod", "map", "iter", "next", "type", "super",
+    "True", "False", "None", "ValueError",
+}
+
+# L25: the methods of builtin values that may be called.
+METHODS = {
+    "append", "clear", "copy", "count", "endswith", "extend", "find", "get", "index", "insert", "isalnum", "isalpha",
+    "isdigit", "islower", "isspace", "isupper", "items", "join", "keys", "ljust", "lower", "lstrip", "partition", "pop",
+    "remove", "replace", "reverse", "rfind", "rjust", "rpartition", "rsplit", "rstrip", "setdefault", "split",
+    "splitlines", "startswith", "strip", "update", "upper", "values", "zfill", "bit_length",
+}
+
+
+def bound_names(tree):
+    """Return the names that parameters and assignments of any kind bind."""
+    found = {node.arg for node in ast.walk(tree) if isinstance(node, ast.arg)}
+    return found | {node.id for node in ast.walk(tree) if isinstance(node, ast.Name) and isinstance(node.ctx, ast.Store)}
 
 
 def sources():
@@ -76,6 +98,27 @@ class Language(unittest.TestCase):
                     self.assertNotIn(node.id, BARRED_NAMES, path)
                 if isinstance(node, ast.Constant):
                     self.assertNotIsInstance(node.value, (float, complex), path)
+
+    def test_names_have_one_meaning(self):
+        for path, text in sources():
+            tree = ast.parse(text)
+            imported = {name.name for node in tree.body if isinstance(node, ast.ImportFrom) for name in node.names}
+            classes = {node.name for node in tree.body if isinstance(node, ast.ClassDef)}
+            functions = {node.name for node in tree.body if isinstance(node, ast.FunctionDef)}
+            self.assertEqual(bound_names(tree) & (imported | classes | set(dir(builtins))), set(), path)
+            self.assertEqual(functions & (imported | classes | set(dir(builtins))), set(), path)
+
+    def test_builtins_and_methods(self):
+        own = {
+            node.name for _, text in sources() for kind in ast.parse(text).body if isinstance(kind, ast.ClassDef)
+            for node in kind.body if isinstance(node, ast.FunctionDef)
+        }
+        for path, text in sources():
+            for node in ast.walk(ast.parse(text)):
+                if isinstance(node, ast.Name) and node.id in dir(builtins):
+                    self.assertIn(node.id, BUILTINS, path)
+                if isinstance(node, ast.Call) and isinstance(node.func, ast.Attribute):
+                    self.assertIn(node.func.attr, METHODS | own, path)
 
 
 if __name__ == "__main__":

@@ -35,7 +35,7 @@ class IsSetTest(unittest.TestCase):
 class OthersTest(unittest.TestCase):
     def test_against_the_sets_of_python(self):
         for some in sets_below(5):
-            self.assertEqual(bin(mask_of(some)), bin(int("".join("01"[n in some] for n in range(5))[::-1], 2)))
+            self.assertEqual(mask_of(some), sum(2 ** number for number in some))
             for other in sets_below(5):
                 self.assertIs(is_part(some, other), set(some) <= set(other))
                 self.assertEqual(shared(some, other), tuple(sorted(set(some) & set(other))))
