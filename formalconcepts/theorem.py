@@ -44,7 +44,7 @@ def alike(lattice, other):
         return None
     # Both lattices stand side by side in one order, that all may be compared.
     above = (*lattice[2], *[tuple([many + y for y in row]) for row in other[2]])
-    _, _, below = turned(("table", len(above), above))
+    below = turned(("table", len(above), above))[2]
     return matched(above, below, [0] * len(above))
 
 
