@@ -56,7 +56,8 @@ def matched(above, below, colours):
     second = colours[many:]
     if sorted(first) != sorted(second):
         return None
-    # Where a colour stands once in each half there is no choice.
+    # Where a colour stands once in each half there is no choice. If all do, the
+    # order is kept: elements of one colour have the same colours above them.
     undecided = [x for x, colour in enumerate(first) if first.count(colour) > 1]
     if undecided == []:
         return tuple([second.index(colour) for colour in first])
