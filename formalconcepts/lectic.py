@@ -17,6 +17,15 @@ def lectic_key(marks):
     return tuple([-mark for mark in marks])
 
 
+def all_sets(many):
+    """Return all sets of so many marks in lectic order."""
+    found = [()]
+    # A set without the least mark is less than each one that has it.
+    for mark in reversed(range(many)):
+        found = found + [(mark, *marks) for marks in found]
+    return found
+
+
 def next_closed(table, marks):
     """Return the least closed set that is greater than a set of marks, None if there is none."""
     # A greater set first parts from the marks at one that they lack and it has:

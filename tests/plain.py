@@ -87,3 +87,54 @@ def keeps_both_ways(order, other, places):
         (y in order[2][x]) == (places[y] in other[2][places[x]])
         for x in range(order[1]) for y in range(order[1])
     )
+
+
+def closure_of(table, marks):
+    """Return what [c2] calls the closure of a set of marks."""
+    return common_of(table, having_of(table, marks))
+
+
+def has_kept(marks, implication):
+    """Tell whether a set keeps an implication, by the sentence of [c5]."""
+    premise, conclusion = implication
+    return not set(premise) <= set(marks) or set(conclusion) <= set(marks)
+
+
+def keepers(implications, many):
+    """Return the sets of so many marks that keep all implications."""
+    return [marks for marks in sets_below(many) if all(has_kept(marks, implication) for implication in implications)]
+
+
+def follows(implications, implication, many):
+    """Tell whether an implication follows, by a search through all sets of so many marks."""
+    return all(has_kept(marks, implication) for marks in keepers(implications, many))
+
+
+def is_right(implications, implication, numbers):
+    """Tell whether some numbers of implications are a derivation by [i1]."""
+    premise, conclusion = implication
+    found = set(premise)
+    for number in numbers:
+        if not set(implications[number][0]) <= found:
+            return False
+        found |= set(implications[number][1])
+    return set(conclusion) <= found
+
+
+def is_plain_base(table, implications):
+    """Tell whether some implications are a base by [i3], by a search through all implications."""
+    every = [(premise, conclusion) for premise in sets_below(table[1]) for conclusion in sets_below(table[1])]
+    kept = [implication for implication in every if all(has_kept(row, implication) for row in table[2])]
+    return all(has_kept(row, implication) for row in table[2] for implication in implications) and all(
+        has_kept(marks, implication) for marks in keepers(implications, table[1]) for implication in kept
+    )
+
+
+def all_pseudo_closed(table):
+    """Return the pseudo-closed sets in lectic order, by the sentence of [i2]."""
+    found = []
+    for marks in sets_below(table[1]):
+        parts = [part for part in found if set(part) < set(marks)]
+        if closure_of(table, marks) != marks and all(set(closure_of(table, part)) <= set(marks) for part in parts):
+            found.append(marks)
+    return tuple(sorted(found, key=lambda marks: lectic_place(marks, table[1])))

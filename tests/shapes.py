@@ -44,3 +44,10 @@ class ShapeCase(unittest.TestCase):
         self.assertIs(type(many), int)
         self.assertEqual(len(above), many)
         self.assert_sets(above, many)
+
+    def assert_implications(self, found, many):
+        self.assertIs(type(found), tuple)
+        for implication in found:
+            self.assertIs(type(implication), tuple)
+            self.assertEqual(len(implication), 2)
+            self.assert_sets(implication, many)

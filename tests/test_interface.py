@@ -57,6 +57,26 @@ FUNCTIONS = {
         "reduced": ["table"],
         "arrows": ["table"],
     },
+    "implications": {
+        "keeps": ["marks", "implication"],
+        "broken_by": ["table", "implication"],
+        "closed_under": ["implications", "marks"],
+        "derivation": ["implications", "implication"],
+        "is_derivation": ["implications", "implication", "numbers"],
+        "is_base": ["table", "implications"],
+    },
+    "stem": {
+        "pseudo_closed": ["table"],
+        "stem": ["table"],
+        "decide": ["table", "implication"],
+        "direct": ["table"],
+    },
+    "rules": {
+        "count": ["table", "marks"],
+        "trust": ["table", "rule"],
+        "luxenburger": ["table"],
+        "trust_by": ["base", "whole", "marks", "other"],
+    },
 }
 CLASSES = {
     "errors": {

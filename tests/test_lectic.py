@@ -2,7 +2,7 @@
 
 import unittest
 
-from formalconcepts.lectic import closed_sets, is_less, next_closed
+from formalconcepts.lectic import all_sets, closed_sets, is_less, next_closed
 from formalconcepts.tables import closure
 from tests.plain import all_closed, lectic_place
 from tests.samples import (
@@ -49,6 +49,19 @@ class IsLessTest(unittest.TestCase):
             for other in sets_below(6):
                 apart = set(marks) ^ set(other)
                 self.assertIs(is_less(marks, other), bool(apart) and min(apart) in other)
+
+
+class AllSetsTest(unittest.TestCase):
+    """[c4]: all sets in lectic order"""
+
+    def test_few_marks(self):
+        self.assertEqual(all_sets(0), [()])
+        self.assertEqual(all_sets(1), [(), (0,)])
+        self.assertEqual(all_sets(2), [(), (1,), (0,), (0, 1)])
+
+    def test_all_of_them_in_order(self):
+        for many in range(8):
+            self.assertEqual(all_sets(many), sorted(sets_below(many), key=lambda marks: lectic_place(marks, many)))
 
 
 class ClosedSetsTest(ShapeCase):

@@ -2,7 +2,7 @@
 
 import unittest
 
-from formalconcepts.sets import is_part, is_set, mask_of, shared
+from formalconcepts.sets import are_numbers, is_part, is_set, lacking, mask_of, shared, united
 from tests.samples import sets_below
 
 # No sets, whatever may stand in them.
@@ -32,6 +32,22 @@ class IsSetTest(unittest.TestCase):
         self.assertIs(is_set((0,), 0), False)
 
 
+class AreNumbersTest(unittest.TestCase):
+    def test_in_any_order(self):
+        for value in ((), (0,), (2, 0), (1, 1), (0, 1, 0), (2, 1, 0)):
+            self.assertIs(are_numbers(value, 3), True)
+
+    def test_beyond_the_bounds(self):
+        for value in ((3,), (0, 3), (-1,), (0, -1), (10 ** 30,)):
+            self.assertIs(are_numbers(value, 3), False)
+        self.assertIs(are_numbers((), 0), True)
+        self.assertIs(are_numbers((0,), 0), False)
+
+    def test_other_kinds(self):
+        for value in (None, True, 0, "0", [], [0], (True,), (0, False), (0.0,), ("0",), (None,), ((),), {0: 0}, range(1)):
+            self.assertIs(are_numbers(value, 3), False, value)
+
+
 class OthersTest(unittest.TestCase):
     def test_against_the_sets_of_python(self):
         for some in sets_below(5):
@@ -39,6 +55,8 @@ class OthersTest(unittest.TestCase):
             for other in sets_below(5):
                 self.assertIs(is_part(some, other), set(some) <= set(other))
                 self.assertEqual(shared(some, other), tuple(sorted(set(some) & set(other))))
+                self.assertEqual(united(some, other), tuple(sorted(set(some) | set(other))))
+                self.assertEqual(lacking(some, other), tuple(sorted(set(some) - set(other))))
 
 
 if __name__ == "__main__":
