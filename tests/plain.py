@@ -1,5 +1,7 @@
 """What the document says, done by a plain search, to compare the program with."""
 
+from functools import lru_cache
+
 from tests.samples import sets_below
 
 
@@ -138,3 +140,50 @@ def all_pseudo_closed(table):
         if closure_of(table, marks) != marks and all(set(closure_of(table, part)) <= set(marks) for part in parts):
             found.append(marks)
     return tuple(sorted(found, key=lambda marks: lectic_place(marks, table[1])))
+
+
+def least_missing(table, implications):
+    """Return the question of [x1], by a search through all sets of marks."""
+    found = [marks for marks in keepers(implications, table[1]) if closure_of(table, marks) != marks]
+    if not found:
+        return None
+    least = min(found, key=lambda marks: lectic_place(marks, table[1]))
+    return (least, tuple(mark for mark in closure_of(table, least) if mark not in least))
+
+
+def partings(many):
+    """Return all ways to part so many elements: for each element the least one of its class."""
+    found = [()]
+    for x in range(many):
+        found = [(*told, least) for told in found for least in (*sorted(set(told)), x)]
+    return sorted(found)
+
+
+def results_of(lattice):
+    """Return for each two elements their join and their meet, by a search."""
+    numbers = range(lattice[1])
+    joins = [[joins_of(lattice, (x, y))[0] for y in numbers] for x in numbers]
+    meets = [[meets_of(lattice, (x, y))[0] for y in numbers] for x in numbers]
+    return joins, meets
+
+
+def is_kept_by(results, told):
+    """Tell whether a way to part the elements is a congruence by [q1]."""
+    numbers = range(len(told))
+    return all(
+        told[table[x][z]] == told[table[y][z]]
+        for x in numbers for y in numbers if told[x] == told[y] for z in numbers for table in results
+    )
+
+
+@lru_cache(maxsize=None)
+def all_congruences(lattice):
+    """Return all congruences, rising, by a search through all ways to part the elements."""
+    results = results_of(lattice)
+    return tuple(told for told in partings(lattice[1]) if is_kept_by(results, told))
+
+
+def lies_within(told, other):
+    """Tell whether the classes of one way to part the elements lie within those of another one."""
+    numbers = range(len(told))
+    return all(other[x] == other[y] for x in numbers for y in numbers if told[x] == told[y])

@@ -77,6 +77,20 @@ FUNCTIONS = {
         "luxenburger": ["table"],
         "trust_by": ["base", "whole", "marks", "other"],
     },
+    "exploring": {"explore": ["many", "rows", "world"]},
+    "congruences": {
+        "is_congruence": ["lattice", "congruence"],
+        "joined": ["lattice", "pairs"],
+        "congruences": ["lattice"],
+        "quotient": ["lattice", "congruence"],
+        "is_simple": ["lattice"],
+        "monolith": ["lattice"],
+    },
+    "products": {
+        "product": ["lattice", "other"],
+        "sum_of": ["table", "other"],
+        "generated": ["lattice", "some"],
+    },
 }
 CLASSES = {
     "errors": {
@@ -84,7 +98,22 @@ CLASSES = {
         "AnswerFault": ["reason"],
         "ThingFault": ["reason"],
     },
+    "exploring": {"Explorer": ["many", "rows"]},
+    "keeping": {"Keeper": ["many"]},
 }
+# The methods that stand in the body of a class itself.
+METHODS = {
+    ("exploring", "Explorer"): {"question": [], "accept": [], "reject": ["row"]},
+    ("keeping", "Keeper"): {"add": ["row"], "remove": ["thing"], "changed": ["thing", "row"]},
+}
+# What is set on an object when it is created.
+FIELDS = (
+    ("errors", "TextFault", (2, "unended"), ("line", "reason")),
+    ("errors", "AnswerFault", ("no question",), ("reason",)),
+    ("errors", "ThingFault", ("no such thing",), ("reason",)),
+    ("exploring", "Explorer", (3, ()), ("table", "accepted")),
+    ("keeping", "Keeper", (3,), ("table", "closed")),
+)
 
 
 class Interface(unittest.TestCase):
@@ -102,6 +131,19 @@ class Interface(unittest.TestCase):
 
     def test_classes(self):
         self.assert_listed(CLASSES, inspect.isclass)
+
+    def test_methods(self):
+        for (file, name), methods in METHODS.items():
+            kind = getattr(importlib.import_module(f"formalconcepts.{file}"), name)
+            for method, arguments in methods.items():
+                self.assertIn(method, vars(kind))
+                self.assertEqual(list(inspect.signature(vars(kind)[method]).parameters), ["self", *arguments], method)
+
+    def test_fields(self):
+        for file, name, arguments, fields in FIELDS:
+            made = getattr(importlib.import_module(f"formalconcepts.{file}"), name)(*arguments)
+            for field in fields:
+                self.assertIn(field, vars(made))
 
     def test_the_base_of_the_errors(self):
         errors = importlib.import_module("formalconcepts.errors")
